@@ -37,9 +37,18 @@ func TestP1103Sum(t *testing.T) {
 		{ones(whole(-1), whole(1), whole(most)), whole(most)},
 		{[]A{area(whole(least)), bare(whole(-1)), bare(whole(1))}, numE},
 		{ones(whole(most), num(1, 9), num(-1, 9)), numE},
-		{ones(whole(most), whole(1), na), numE},
+		// too great a sum only where all are numbers
+		{ones(whole(most), whole(1), na), na},
 		{ones(whole(most), na, whole(1)), na},
-		{[]A{area(whole(most), whole(1), na)}, numE},
+		{ones(whole(most), whole(1), text("x")), value},
+		{ones(whole(most), whole(1), text("x"), na), value},
+		{ones(whole(most), whole(1), whole(2), na), na},
+		{[]A{area(whole(most), whole(1), na)}, na},
+		{[]A{area(whole(most), whole(1), text("x"), na)}, na},
+		{[]A{area(whole(most), whole(1), text("x"))}, numE},
+		{[]A{area(whole(most), whole(1)), bare(div0)}, div0},
+		{[]A{bare(whole(most)), bare(whole(1)), area(blank, refE), bare(na)}, refE},
+		{[]A{area(whole(least), whole(-1)), area(), bare(text("1")), bare(text("x"))}, value},
 	})
 }
 
@@ -111,7 +120,45 @@ func TestP1103Average(t *testing.T) {
 		{[]A{area(whole(4), na)}, na},
 		{ones(whole(most), whole(most)), numE},
 		{ones(whole(most)), whole(most)},
+		{ones(whole(most), whole(1), whole(-1)), numE},
+		// too great a sum only where all are numbers
+		{ones(whole(most), whole(most), na), na},
+		{ones(whole(most), whole(most), text("x")), value},
+		{ones(whole(most), whole(most), text("x"), na), value},
+		{[]A{area(whole(most), whole(most), na)}, na},
+		{[]A{area(whole(most), whole(most), text("x"))}, numE},
+		{[]A{area(whole(least), whole(-1)), bare(div0), bare(na)}, div0},
 	})
+}
+
+// TestP1103FaultsAheadOfWhatIsReckoned holds each function of many to its first
+// fault, however much is reckoned of what stands ahead of it.
+func TestP1103FaultsAheadOfWhatIsReckoned(t *testing.T) {
+	long := text(strings.Repeat("1", 1000))
+	heads := map[string][]V{
+		"SUM": {whole(most), whole(most), whole(least), whole(-1)}, "AVERAGE": {whole(most), whole(most), whole(least)},
+		"MIN": {whole(least), whole(most)}, "MAX": {whole(most), whole(least)},
+		"AND": {no, no, yes}, "OR": {yes, yes, no},
+		"CONCAT": {long, long, whole(1), long, long, long, long, long},
+	}
+	for _, name := range ofMany {
+		head, is := heads[name]
+		if !is {
+			continue // COUNT takes an Err for none
+		}
+		for _, f := range faults {
+			for ahead := range len(head) + 1 {
+				l := append(append(append([]V{}, head[:ahead]...), f), head[ahead:]...)
+				l = append(l, div0)
+				check(t, "P1103", name, []row{
+					{ones(l...), f},
+					{[]A{area(l...)}, f},
+					{[]A{area(l[:ahead]...), area(l[ahead:]...)}, f},
+					{append(ones(l[:ahead]...), area(l[ahead:]...)), f},
+				})
+			}
+		}
+	}
 }
 
 func TestP1103NumbersOfOne(t *testing.T) {

@@ -178,13 +178,16 @@ func modelMany(name string, args []A) V {
 		}
 		return whole(int64(n))
 	}
-	return modelNumbers(name, allOf(args, "num"))
+	var l []*big.Rat
+	for _, v := range allOf(args, "num") {
+		l = append(l, ratOf(v))
+	}
+	return modelNumbers(name, l)
 }
 
-func modelNumbers(name string, l []V) V {
+func modelNumbers(name string, l []*big.Rat) V {
 	total, lowest, highest := new(big.Rat), new(big.Rat), new(big.Rat)
-	for i, v := range l {
-		r := ratOf(v)
+	for i, r := range l {
 		if i == 0 || r.Cmp(lowest) < 0 {
 			lowest = r
 		}

@@ -24,37 +24,51 @@ func picked(args []Arg, wanted ...int) iter.Seq[val.Val] {
 	}
 }
 
-// sum tells all numbers added, of AVERAGE by how many they are.
-func sum(op int, args []Arg) val.Val {
-	total, n := dec.Dec{}, int64(0)
+// allNumbers tells the numbers of args, in order, or, by a false, what is told
+// instead of the first that is none. All are asked ahead of what is reckoned of
+// them: what is told instead of one comes first, however far right it stands.
+func allNumbers(args []Arg) ([]dec.Dec, val.Val, bool) {
+	var l []dec.Dec
 	for v := range picked(args, val.Num) {
 		d, fault, ok := val.Number(v)
 		if !ok {
-			return fault
+			return nil, fault, false
 		}
+		l = append(l, d)
+	}
+	return l, val.Val{}, true
+}
+
+// sum tells all numbers added, of AVERAGE by how many they are.
+func sum(op int, args []Arg) val.Val {
+	l, fault, ok := allNumbers(args)
+	if !ok {
+		return fault
+	}
+	total := dec.Dec{}
+	for _, d := range l {
 		var e api.Errno
 		total, e = dec.Add(total, d)
 		if e != api.OK {
 			return reckoned(total, e)
 		}
-		n++
 	}
 	if op == opAverage {
-		return reckoned(dec.Div(total, dec.Int(n)))
+		return reckoned(dec.Div(total, dec.Int(int64(len(l)))))
 	}
 	return number(total)
 }
 
 // extreme tells the least number, way -1, or the greatest one, way 1; of none 0.
 func extreme(args []Arg, way int) val.Val {
-	best, none := dec.Dec{}, true
-	for v := range picked(args, val.Num) {
-		d, fault, ok := val.Number(v)
-		if !ok {
-			return fault
-		}
-		if none || dec.Compare(d, best) == way {
-			best, none = d, false
+	l, fault, ok := allNumbers(args)
+	if !ok {
+		return fault
+	}
+	best := dec.Dec{}
+	for i, d := range l {
+		if i == 0 || dec.Compare(d, best) == way {
+			best = d
 		}
 	}
 	return number(best)
